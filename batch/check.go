@@ -1,13 +1,12 @@
 package batch
 
 import (
-	"slices"
-
 	"meetwater/api"
 	"meetwater/cells"
 	"meetwater/change"
 	"meetwater/lists"
 	"meetwater/plan"
+	"meetwater/sides"
 	"meetwater/times"
 )
 
@@ -52,12 +51,5 @@ func checkView(p api.Plan, v []api.Count) api.Errno {
 	if e := change.Check(v); e != api.OK {
 		return e
 	}
-	columns := slices.Concat(p.Left, p.Right)
-	if !lists.Every(v, func(_ int, c api.Count) bool { return len(c.Row) == len(columns) }) {
-		return api.ErrMany
-	}
-	if !lists.Every(v, func(_ int, c api.Count) bool { return cells.Typed(c.Row, columns) }) {
-		return api.ErrType
-	}
-	return api.OK
+	return cells.CheckView(v, sides.Together(p))
 }

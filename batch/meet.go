@@ -3,6 +3,7 @@ package batch
 import (
 	"meetwater/api"
 	"meetwater/plan"
+	"meetwater/sides"
 	"meetwater/times"
 )
 
@@ -19,13 +20,13 @@ func join(p api.Plan, left, right []api.Stamped, tell func(l, r []api.Value)) {
 			met[at] = true
 			tell(l.Row, right[at].Row)
 		}
-		if len(partners) == 0 && keepsLeft(p.Mode) {
-			tell(l.Row, nulls(p.Right))
+		if len(partners) == 0 && sides.Keeps(p.Mode, api.Left) {
+			tell(l.Row, sides.Nulls(p, api.Right))
 		}
 	}
 	for at, r := range right {
-		if !met[at] && keepsRight(p.Mode) {
-			tell(nulls(p.Left), r.Row)
+		if !met[at] && sides.Keeps(p.Mode, api.Right) {
+			tell(sides.Nulls(p, api.Left), r.Row)
 		}
 	}
 }
@@ -79,9 +80,3 @@ func timesMeet(p api.Plan, l, r int) bool {
 	b, _, _ := times.Window(r, p.Size)
 	return a == b
 }
-
-func keepsLeft(mode int) bool  { return mode == api.LeftOuter || mode == api.FullOuter }
-func keepsRight(mode int) bool { return mode == api.RightOuter || mode == api.FullOuter }
-
-// nulls stand for the cells of a side; a Null is a value without anything.
-func nulls(columns []int) []api.Value { return make([]api.Value, len(columns)) }

@@ -2,6 +2,7 @@ package buffer
 
 import (
 	"meetwater/api"
+	"meetwater/entries"
 	"meetwater/lists"
 	"meetwater/times"
 	"meetwater/value"
@@ -9,10 +10,10 @@ import (
 
 func limitRight(limit int) bool { return 1 <= limit && limit <= api.MaxLimit }
 
-func countsRight(b api.Buffer) bool { return len(b.Mem) <= b.Limit && size(b) <= api.MaxRows }
+func countsRight(b api.Buffer) bool { return len(b.Mem) <= b.Limit && entries.Size(b) <= api.MaxRows }
 
 func formRight(b api.Buffer) bool {
-	for part := range parts(b) {
+	for part := range entries.Parts(b) {
 		if !partRight(part) {
 			return false
 		}
@@ -40,7 +41,7 @@ func holdsEmptyRun(b api.Buffer) bool {
 // they may lie in two of them.
 func holdsTwice(b api.Buffer) bool {
 	seen := make(map[place]int)
-	for e := range entries(b) {
+	for e := range entries.All(b) {
 		seen[placeOf(e)]++
 		if seen[placeOf(e)] > 1 {
 			return true

@@ -21,3 +21,15 @@ func Pick(row []api.Value, places []int) []api.Value {
 	}
 	return picked
 }
+
+// CheckView tells what is wrong with the rows of a view of these columns, if
+// anything is: first of all their numbers of cells, then of all their types.
+func CheckView(v []api.Count, columns []int) api.Errno {
+	if !lists.Every(v, func(_ int, c api.Count) bool { return len(c.Row) == len(columns) }) {
+		return api.ErrMany
+	}
+	if !lists.Every(v, func(_ int, c api.Count) bool { return Typed(c.Row, columns) }) {
+		return api.ErrType
+	}
+	return api.OK
+}

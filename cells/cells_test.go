@@ -49,3 +49,24 @@ func TestPick(t *testing.T) {
 		t.Error("what was picked is the row's own memory")
 	}
 }
+
+func TestCheckView(t *testing.T) { // of all rows the numbers of cells ahead of the types
+	columns := []int{api.Int, api.Bool, api.Text}
+	typed, short := []api.Value{{}, {}, {Kind: api.Int}}, []api.Value{{}, {}}
+	for _, c := range []struct {
+		rows [][]api.Value
+		want api.Errno
+	}{
+		{nil, api.OK}, {[][]api.Value{row, row}, api.OK},
+		{[][]api.Value{row, short}, api.ErrMany}, {[][]api.Value{row, typed}, api.ErrType},
+		{[][]api.Value{typed, row, short}, api.ErrMany}, {[][]api.Value{short, typed}, api.ErrMany},
+	} {
+		var v []api.Count
+		for _, r := range c.rows {
+			v = append(v, api.Count{Row: r, N: 1})
+		}
+		if got := CheckView(v, columns); got != c.want {
+			t.Errorf("%v: %d and must be %d", c.rows, got, c.want)
+		}
+	}
+}

@@ -5,6 +5,7 @@ import (
 
 	"meetwater/api"
 	"meetwater/lists"
+	"meetwater/sides"
 	"meetwater/times"
 )
 
@@ -43,23 +44,23 @@ func sizeRight(p api.Plan) bool {
 }
 
 func countsRight(p api.Plan) bool {
-	sides := lists.Every([][]int{p.Left, p.Right, p.LKeys, p.RKeys}, func(_ int, l []int) bool {
+	right := lists.Every([][]int{p.Left, p.Right, p.LKeys, p.RKeys}, func(_ int, l []int) bool {
 		return between(len(l), 1, api.MaxCols)
 	})
 	if !p.Grouped {
-		return sides && len(p.Group) == 0 && len(p.Aggs) == 0
+		return right && len(p.Group) == 0 && len(p.Aggs) == 0
 	}
-	return sides && between(len(p.Aggs), 1, api.MaxAggs) && len(p.Group) <= api.MaxCells-len(p.Aggs)
+	return right && between(len(p.Aggs), 1, api.MaxAggs) && len(p.Group) <= api.MaxCells-len(p.Aggs)
 }
 
 func typesRight(p api.Plan) bool {
-	return lists.Every(joined(p), func(_, column int) bool { return between(column, api.Bool, api.Text) })
+	return lists.Every(sides.Together(p), func(_, column int) bool { return between(column, api.Bool, api.Text) })
 }
 
 // formRight, and what it asks, relies on the errors ahead of it having been
 // looked for: the lists are short, and the columns have types.
 func formRight(p api.Plan) bool {
-	return p.Low <= p.High && keysRight(p) && placesRight(p.Group, joined(p)) && aggsRight(p.Aggs, joined(p))
+	return p.Low <= p.High && keysRight(p) && placesRight(p.Group, sides.Together(p)) && aggsRight(p.Aggs, sides.Together(p))
 }
 
 func keysRight(p api.Plan) bool {
@@ -88,6 +89,3 @@ func aggsRight(l []api.Agg, columns []int) bool {
 		return isPlace(a.Col, columns)
 	})
 }
-
-// joined is the columns of a joined row.
-func joined(p api.Plan) []int { return slices.Concat(p.Left, p.Right) }

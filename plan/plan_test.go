@@ -279,10 +279,12 @@ func TestOut(t *testing.T) { // D2
 	bare.Group, bare.Aggs = nil, []api.Agg{{Fn: api.MaxOf, Col: 2}}
 	full := grouped()
 	full.Group, full.Aggs = []int{4, 3, 2, 1}, []api.Agg{{Fn: api.MaxOf, Col: 1}, {Fn: api.MinOf, Col: 0}, {Fn: api.SumOf}, {Fn: api.CountOf}}
+	texts := api.Plan{Kind: api.Temporal, Mode: api.Inner, Limit: 1, Left: []int{api.Text}, Right: []int{api.Text}, LKeys: []int{0}, RKeys: []int{0}, Grouped: true, Aggs: []api.Agg{{Fn: api.CountOf}}}
 	for name, c := range map[string]struct {
 		p    api.Plan
 		want []int
 	}{
+		"a count of texts": {texts, []int{api.Int}},
 		"interval":         {interval(), all},
 		"window":           {window(), all},
 		"temporal":         {temporal(), all},
